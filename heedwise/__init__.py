@@ -1,0 +1,1 @@
+"""Heedwise: advisers heeded."""
