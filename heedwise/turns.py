@@ -20,6 +20,11 @@ def is_turn(many, scale, turn):
     return is_said(many, scale, turn[0]) and is_on_scale(scale, turn[1])
 
 
+def check_said(many, scale, said):
+    if not is_said(many, scale, said):
+        raise NoTurn(0)
+
+
 def check_turn(many, scale, said, so):
     if not is_turn(many, scale, (said, so)):
         raise NoTurn(0)

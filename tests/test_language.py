@@ -20,6 +20,14 @@ BANNED_WORDS = (
 ).split()
 BANNED_PARTS = ("dataclass", "overload", "contextmanager")
 METHODS = ("__init__", "__eq__", "__repr__", "__str__", "__len__")
+PYTHON_METHODS = set(
+    "append clear copy count endswith extend find get index insert isalnum isalpha isdigit islower isspace isupper"
+    " items join keys ljust lower lstrip partition pop remove replace reverse rfind rjust rpartition rsplit rstrip"
+    " setdefault split splitlines startswith strip update upper values zfill bit_length".split()
+)
+PYTHON_VALUES = set(
+    name for kind in (str, int, list, tuple, dict, set, frozenset, bytes, bytearray) for name in dir(kind)
+)
 BANNED_FORMS = (
     ast.With, ast.Match, ast.Delete, ast.Global, ast.Nonlocal, ast.Assert, ast.Yield, ast.YieldFrom, ast.Await,
     ast.AsyncFunctionDef, ast.AsyncFor, ast.AsyncWith, ast.SetComp, ast.DictComp, ast.GeneratorExp, ast.NamedExpr,
@@ -33,6 +41,23 @@ def trees():
 
 def nodes(*kinds):
     return [(path.name, node) for path, tree in trees() for node in ast.walk(tree) if isinstance(node, kinds)]
+
+
+def own_methods():
+    return {part.name for name, node in nodes(ast.ClassDef) for part in node.body if isinstance(part, ast.FunctionDef)}
+
+
+def own_values():
+    return {node.attr for name, node in nodes(ast.Attribute) if isinstance(node.ctx, ast.Store)}
+
+
+def names_of_file(tree):
+    """The classes and the imports of a file."""
+    found = [node.name for node in tree.body if isinstance(node, ast.ClassDef)]
+    for node in tree.body:
+        if isinstance(node, ast.ImportFrom):
+            found.extend(alias.name for alias in node.names)
+    return found
 
 
 class LanguageTest(unittest.TestCase):
@@ -90,6 +115,33 @@ class LanguageTest(unittest.TestCase):
             self.assertLessEqual(len(node.bases), 1, name)
             for part in node.body:
                 self.assertIsInstance(part, (ast.FunctionDef, ast.Pass), f"{name}:{part.lineno}")
+
+    def test_no_name_is_a_method_and_a_value(self):
+        self.assertEqual(own_methods() & own_values(), set())
+
+    def test_own_methods_and_values_are_called_like_none_of_python(self):
+        for name in (own_methods() | own_values()) - set(METHODS):
+            self.assertNotIn(name, PYTHON_VALUES)
+
+    def test_methods_that_are_called(self):
+        allowed = PYTHON_METHODS | own_methods()
+        for name, node in nodes(ast.Call):
+            if isinstance(node.func, ast.Attribute):
+                self.assertIn(node.func.attr, allowed, f"{name}:{node.lineno}")
+
+    def test_no_percent_sign_within_a_text(self):
+        for name, node in nodes(ast.Constant):
+            if isinstance(node.value, str):
+                self.assertNotIn("%", node.value, f"{name}:{node.lineno}")
+
+    def test_no_local_is_called_like_a_class_or_an_import(self):
+        for path, tree in trees():
+            taken = names_of_file(tree)
+            for node in ast.walk(tree):
+                if isinstance(node, ast.arg):
+                    self.assertNotIn(node.arg, taken, f"{path.name}:{node.lineno}")
+                if isinstance(node, ast.Name) and isinstance(node.ctx, ast.Store):
+                    self.assertNotIn(node.id, taken, f"{path.name}:{node.lineno}")
 
     def test_imports(self):
         modules = ["heedwise." + path.stem for path in FILES]

@@ -1,0 +1,30 @@
+"""A plain hand, which heeds all advisers alike; the other hands stand under it."""
+
+from heedwise.rules import check_making
+from heedwise.turns import check_said, check_turn
+from heedwise.wholes import middle
+
+
+def middle_awake(said, weights):
+    awake = [adviser for adviser, what in enumerate(said) if what is not None]
+    return middle(tuple([said[adviser] for adviser in awake]), tuple([weights[adviser] for adviser in awake]))
+
+
+class Hand:
+    def __init__(self, many, scale):
+        check_making(many, scale)
+        self.many = many
+        self.scale = scale
+
+    def heeded(self):
+        return (1,) * self.many
+
+    def say(self, said):
+        check_said(self.many, self.scale, said)
+        return middle_awake(said, self.heeded())
+
+    def hear(self, said, so):
+        check_turn(self.many, self.scale, said, so)
+
+    def anew(self):
+        return Hand(self.many, self.scale)

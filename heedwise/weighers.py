@@ -1,0 +1,47 @@
+"""A hand that lessens an adviser's weight by what it is off by, in exact whole numbers."""
+
+from heedwise.hands import Hand
+from heedwise.rules import check_fraction
+from heedwise.turns import charge, check_turn
+from heedwise.wholes import power
+
+
+class Weigher(Hand):
+    def __init__(self, many, scale, top, bottom):
+        check_fraction(top, bottom)
+        Hand.__init__(self, many, scale)
+        self.top = top
+        self.bottom = bottom
+        self.tops = (1,) * many
+        self.under = 1
+
+    def heeded(self):
+        return self.tops
+
+    def weights(self):
+        return (self.tops, self.under)
+
+    def total(self):
+        return (sum(self.tops), self.under)
+
+    def times_awake(self, own, off):
+        kept = power(self.top, off) * power(self.bottom, self.scale - off)
+        return kept * 2 * power(self.bottom, own)
+
+    def times_asleep(self, own):
+        # Also what the number under is taken times: so the weight of one that sleeps stays.
+        return power(self.bottom, self.scale) * (power(self.bottom, own) + power(self.top, own))
+
+    def times(self, own, what, so):
+        if what is None:
+            return self.times_asleep(own)
+        return self.times_awake(own, charge(what, so))
+
+    def hear(self, said, so):
+        check_turn(self.many, self.scale, said, so)
+        own = charge(self.say(said), so)
+        self.tops = tuple([kept * self.times(own, what, so) for kept, what in zip(self.tops, said)])
+        self.under = self.under * self.times_asleep(own)
+
+    def anew(self):
+        return Weigher(self.many, self.scale, self.top, self.bottom)
