@@ -1,12 +1,12 @@
 """A plain hand, which heeds all advisers alike; the other hands stand under it."""
 
 from heedwise.rules import check_making
-from heedwise.turns import check_said, check_turn
+from heedwise.turns import awake_in, check_said, check_turn
 from heedwise.wholes import middle
 
 
 def middle_awake(said, weights):
-    awake = [adviser for adviser, what in enumerate(said) if what is not None]
+    awake = awake_in(said)
     return middle(tuple([said[adviser] for adviser in awake]), tuple([weights[adviser] for adviser in awake]))
 
 

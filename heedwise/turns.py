@@ -38,6 +38,10 @@ def check_turns(many, scale, turns):
             raise NoTurn(number)
 
 
+def awake_in(said):
+    return [adviser for adviser, what in enumerate(said) if what is not None]
+
+
 def charge(what, so):
     if what is None:
         return 0

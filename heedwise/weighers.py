@@ -37,11 +37,14 @@ class Weigher(Hand):
             return self.times_asleep(own)
         return self.times_awake(own, charge(what, so))
 
-    def hear(self, said, so):
-        check_turn(self.many, self.scale, said, so)
+    def weigh(self, said, so):
         own = charge(self.say(said), so)
         self.tops = tuple([kept * self.times(own, what, so) for kept, what in zip(self.tops, said)])
         self.under = self.under * self.times_asleep(own)
+
+    def hear(self, said, so):
+        check_turn(self.many, self.scale, said, so)
+        self.weigh(said, so)
 
     def anew(self):
         return Weigher(self.many, self.scale, self.top, self.bottom)

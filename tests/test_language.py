@@ -116,6 +116,12 @@ class LanguageTest(unittest.TestCase):
             for part in node.body:
                 self.assertIsInstance(part, (ast.FunctionDef, ast.Pass), f"{name}:{part.lineno}")
 
+    def test_of_a_class_nothing_but_init_is_drawn(self):
+        classes = [node.name for name, node in nodes(ast.ClassDef)]
+        for name, node in nodes(ast.Attribute):
+            if isinstance(node.value, ast.Name) and node.value.id in classes:
+                self.assertEqual(node.attr, "__init__", f"{name}:{node.lineno}")
+
     def test_no_name_is_a_method_and_a_value(self):
         self.assertEqual(own_methods() & own_values(), set())
 

@@ -2,14 +2,14 @@ import itertools
 import random
 import unittest
 
+from samples import GREATEST, plain_paper
+
 from heedwise.errors import NoTurn
 from heedwise.hands import Hand
 from heedwise.papers import most_errors, paper, ran
 from heedwise.turns import erred, own_errors
 from heedwise.weighers import Weigher
 from heedwise.wholes import halvings
-
-GREATEST = 10 ** 60 - 1
 
 FRACTIONS = ((0, 1), (0, 100), (1, 2), (2, 3), (1, 100), (50, 100), (98, 99), (99, 100))
 
@@ -154,14 +154,8 @@ class PaperTest(unittest.TestCase):
         source = random.Random(2)
         for making in ((3, 4, 1, 3), (24, 1, 0, 1), (1, 10, 99, 100), (6, 2, 1, 2)):
             turns = drawn_turns(source, making[0], making[1], 60)
-            runner = Weigher(*making)
-            lines = []
-            for said, so in turns:
-                saying = runner.say(said)
-                runner.hear(said, so)
-                tops, under = runner.weights()
-                lines.append((saying, abs(saying - so), sum(tops), under))
-            self.assert_paper(Weigher(*making), turns, tuple(lines))
+            lines = plain_paper(Weigher(*making), turns)
+            self.assert_paper(Weigher(*making), turns, lines)
             self.assertEqual(ran(Weigher(*making), turns), tuple(line[0] for line in lines))
 
     def test_a_new_one_is_asked(self):

@@ -2,13 +2,13 @@ import itertools
 import random
 import unittest
 
+from samples import GREATEST, WeigherTest, middle_awake, plain_times
+
 from heedwise.errors import NoRule, NoTurn
 from heedwise.hands import Hand
 from heedwise.turns import erred, own_errors
 from heedwise.weighers import Weigher
-from heedwise.wholes import halvings, middle
-
-GREATEST = 10 ** 60 - 1
+from heedwise.wholes import halvings
 
 FRACTIONS = ((0, 1), (1, 2), (2, 3), (0, 100), (1, 100), (50, 100), (99, 100))
 
@@ -51,16 +51,6 @@ def hurting_turns(source, weigher, count=60):
 
 def rows_for(source, weigher):
     return (drawn_turns(source, weigher.many, weigher.scale), hurting_turns(source, weigher))
-
-
-def plain_times(weigher, saying, what, so):
-    """What the document takes a top (what None: one that sleeps, or the number under) times in a turn."""
-    top, bottom, scale = weigher.top, weigher.bottom, weigher.scale
-    d = abs(saying - so)
-    if what is None:
-        return bottom ** scale * (bottom ** d + top ** d)
-    away = abs(what - so)
-    return top ** away * bottom ** (scale - away) * 2 * bottom ** d
 
 
 class MakingTest(unittest.TestCase):
@@ -108,16 +98,7 @@ class MakingTest(unittest.TestCase):
         self.assertIs(type(caught.exception), NoRule)
 
 
-class ByHandTest(unittest.TestCase):
-    def assert_weights(self, weigher, tops, under):
-        self.assertEqual(weigher.weights(), (tops, under))
-        self.assertEqual(weigher.heeded(), tops)
-        self.assertEqual(weigher.total(), (sum(tops), under))
-        told = (weigher.weights(), weigher.weights()[0], weigher.heeded(), weigher.total())
-        self.assertEqual([type(one) for one in told], [tuple] * 4)
-        for number in weigher.heeded() + weigher.total() + weigher.weights()[1:]:
-            self.assertIs(type(number), int)
-
+class ByHandTest(WeigherTest):
     def test_on_the_scale_1_with_a_sleeper(self):
         weigher = Weigher(3, 1, 1, 2)
         self.assertEqual(weigher.say((0, 1, None)), 0)
@@ -198,8 +179,7 @@ class PlainProductsTest(unittest.TestCase):
         tops = [1] * weigher.many
         under = 1
         for said, so in turns:
-            awake = [place for place in range(weigher.many) if said[place] is not None]
-            saying = middle(tuple(said[place] for place in awake), tuple(tops[place] for place in awake))
+            saying = middle_awake(tops, said)
             self.assertEqual(weigher.say(said), saying)
             weigher.hear(said, so)
             tops = [top * plain_times(weigher, saying, what, so) for top, what in zip(tops, said)]
