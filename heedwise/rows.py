@@ -21,15 +21,17 @@ def written(turns):
     return "\n".join([row_of(said, so) for said, so in turns])
 
 
-def is_number(scale, word):
-    # The length is looked at ahead of int, which Python refuses to make of very many figures.
-    if len(word) == 0 or len(word) > len(str(scale)):
+def is_in_figures(most, word):
+    if len(word) == 0 or len(word) > most:
         return False
     if not all([sign in FIGURES for sign in word]):
         return False
-    if word[0] == "0" and len(word) > 1:
-        return False
-    return int(word) <= scale
+    return word[0] != "0" or len(word) == 1
+
+
+def is_number(scale, word):
+    # The length is looked at ahead of int, which Python refuses to make of very many figures.
+    return is_in_figures(len(str(scale)), word) and int(word) <= scale
 
 
 def are_words(many, scale, words):

@@ -1,4 +1,4 @@
-"""What a hand may be made of; all else is refused with NoRule."""
+"""What hands, Meaners and Books may be made of; all else is refused with NoRule."""
 
 from heedwise.errors import NoRule
 from heedwise.wholes import is_whole, power
@@ -15,9 +15,13 @@ def check_within(what, value, least, most):
         raise NoRule(f"{what} is no whole number that may stand there")
 
 
+def check_scale(scale):
+    check_within("scale", scale, 1, MOST_SCALE)
+
+
 def check_making(many, scale):
     check_within("many", many, 1, MOST_ADVISERS)
-    check_within("scale", scale, 1, MOST_SCALE)
+    check_scale(scale)
 
 
 def check_fraction(top, bottom):

@@ -1,9 +1,9 @@
 """A hand that lessens an adviser's weight by what it is off by, in exact whole numbers."""
 
+from heedwise.factors import times, times_asleep
 from heedwise.hands import Hand
 from heedwise.rules import check_fraction
 from heedwise.turns import charge, check_turn
-from heedwise.wholes import power
 
 
 class Weigher(Hand):
@@ -24,23 +24,10 @@ class Weigher(Hand):
     def total(self):
         return (sum(self.tops), self.under)
 
-    def times_awake(self, own, off):
-        kept = power(self.top, off) * power(self.bottom, self.scale - off)
-        return kept * 2 * power(self.bottom, own)
-
-    def times_asleep(self, own):
-        # Also what the number under is taken times: so the weight of one that sleeps stays.
-        return power(self.bottom, self.scale) * (power(self.bottom, own) + power(self.top, own))
-
-    def times(self, own, what, so):
-        if what is None:
-            return self.times_asleep(own)
-        return self.times_awake(own, charge(what, so))
-
     def weigh(self, said, so):
         own = charge(self.say(said), so)
-        self.tops = tuple([kept * self.times(own, what, so) for kept, what in zip(self.tops, said)])
-        self.under = self.under * self.times_asleep(own)
+        self.tops = tuple([kept * times(self, own, what, so) for kept, what in zip(self.tops, said)])
+        self.under = self.under * times_asleep(self, own)
 
     def hear(self, said, so):
         check_turn(self.many, self.scale, said, so)

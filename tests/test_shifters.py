@@ -6,6 +6,7 @@ from samples import (
     GREATEST, WeigherTest, drawn_turns, hurting_turns, middle_awake, plain_paper, plain_times,
 )
 
+from heedwise.best import best_row
 from heedwise.errors import NoTurn
 from heedwise.hands import Hand
 from heedwise.papers import paper, ran
@@ -54,12 +55,7 @@ class MakingTest(WeigherTest):
 
     def test_refused_as_a_weigher(self):
         self.assert_makings_refused(lambda many, scale: Shifter(many, scale, 1, 2, 1, 2))
-        wrong = (
-            (-1, 2), (-GREATEST, 2), (2, 2), (3, 2), (1, 1), (100, 100), (GREATEST, 100), (0, 101), (1, GREATEST),
-            (0, 0), (-1, 0), (0, -1), (-2, -1), (True, 2), (False, 2), (0, True), (False, True), (0, False),
-        )
-        for top, bottom in wrong:
-            self.assert_no_rule(Shifter, 2, 1, top, bottom, 1, 2)
+        self.assert_fractions_refused(lambda top, bottom: Shifter(2, 1, top, bottom, 1, 2))
         self.assert_no_rule(Shifter, 0, 0, 2, 2, 2, 2)
         self.assert_no_rule(Shifter, True, True, True, True, True, True)
 
@@ -186,6 +182,8 @@ class DrawnTest(WeigherTest):
                 runner.hear(said, so)
             for row in self.advisers(source, shifter.many, factors):
                 self.assert_bound(runner, factors, row)
+            for changes in (0, 1, 3, 10):
+                self.assert_bound(runner, factors, best_row(shifter.many, turns, changes)[0])
 
     def advisers(self, source, many, factors):
         """Rows: of one adviser, drawn, changing seldom, and of those whose tops were taken times most."""

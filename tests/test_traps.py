@@ -2,7 +2,7 @@ import itertools
 import random
 import unittest
 
-from samples import GREATEST, drawn_turns
+from samples import GREATEST, bare_hands, hands_for, having_heard, tiers_for, told_of
 
 from heedwise.errors import NoWay
 from heedwise.followers import Follower
@@ -10,6 +10,7 @@ from heedwise.hands import Hand
 from heedwise.papers import ran
 from heedwise.rounders import Rounder
 from heedwise.shifters import Shifter
+from heedwise.tiers import Tier
 from heedwise.traps import trap, trap_following
 from heedwise.turns import charge, check_turns, erred
 from heedwise.weighers import Weigher
@@ -32,36 +33,6 @@ class Fickle(Hand):
 
     def anew(self):
         return Fickle(self.many, self.scale)
-
-
-def having_heard(hand, seed):
-    for said, so in drawn_turns(random.Random(seed), hand.many, hand.scale, 20):
-        hand.hear(said, so)
-    return hand
-
-
-def hands_for(many, scale):
-    """Each class by several makings, new."""
-    great = tuple(GREATEST - adviser for adviser in range(many))
-    return [
-        Hand(many, scale), Weigher(many, scale, 1, 2), Weigher(many, scale, 0, 1), Weigher(many, scale, 99, 100),
-        Follower(many, scale), Follower(many, scale, tuple(range(many))), Follower(many, scale, great),
-        Rounder(many, scale), Shifter(many, scale, 1, 2, 1, 4), Shifter(many, scale, 0, 1, 99, 100),
-    ]
-
-
-def kept(hand):
-    """All that a hand tells of itself."""
-    told = [hand.many, hand.scale, hand.heeded()]
-    if isinstance(hand, Weigher):
-        told.append(hand.weights())
-    if isinstance(hand, Follower):
-        told.append((hand.push, hand.scores()))
-    if isinstance(hand, Rounder):
-        told.append((hand.ins(), hand.rounds()))
-    for what in range(hand.scale + 1):
-        told.append(hand.say((0, what) * (hand.many // 2) + (what,) * (hand.many % 2)))
-    return told
 
 
 class TurnsTest(unittest.TestCase):
@@ -159,19 +130,36 @@ class TrapTest(TurnsTest):
         # None is left without weight: so the ones that erred in the third turn are behind in the fourth.
         self.assert_sos(Shifter(3, 2, 0, 1, 1, 100), (2, 0, 2, 0))
 
+    def test_a_tier_by_hand(self):
+        hands = (Hand(2, 1), Follower(2, 1))
+        # The Hand says 0 in each turn, and half is enough for the head.
+        self.assert_sos(Tier(hands, Hand(2, 1)), (1, 1, 1, 1))
+        # The Follower says 1 from the second turn on; behind that turn it has the lesser score, behind the third not.
+        self.assert_sos(Tier(hands, Follower(2, 1)), (1, 1, 0, 1, 0))
+        self.assert_sos(Tier(hands, Weigher(2, 1, 1, 2)), (1, 1, 0, 1, 0))
+
     def test_what_the_words_say(self):
         for many, scale in itertools.product((2, 3, 4, 7, 23, 24), (1, 2, 10)):
-            for number, hand in enumerate(hands_for(many, scale)):
+            for number, hand in enumerate(bare_hands(many, scale)):
                 for count in COUNTS:
                     self.assert_trapped(hand, count)
                 having_heard(hand, number)
                 for count in (0, 1, 60):
                     self.assert_trapped(hand, count)
 
+    def test_what_the_words_say_of_tiers(self):
+        for many, scale in ((2, 10), (3, 1), (24, 2)):
+            for number, tier in enumerate(tiers_for(many, scale)):
+                self.assert_trapped(tier, 20)
+                having_heard(tier, number, 5)
+                for count in (0, 1, 6):
+                    self.assert_trapped(tier, count)
+        self.assert_trapped(Tier((Rounder(2, 1), Follower(2, 1)), Shifter(2, 1, 1, 2, 1, 2)), 60)
+
     def assert_trapped(self, hand, count):
-        before = kept(hand)
+        before = told_of(hand)
         turns = trap(hand, count)
-        self.assertEqual(kept(hand), before)
+        self.assertEqual(told_of(hand), before)
         self.assert_turns(hand, count, turns)
         runner = hand.anew()
         for said, so in turns:
@@ -194,16 +182,16 @@ class TrapTest(TurnsTest):
             for number, hand in enumerate(hands_for(1, scale)):
                 for count in COUNTS:
                     self.assert_no_way(hand, count)
-                having_heard(hand, number)
+                having_heard(hand, number, 5)
                 self.assert_no_way(hand, 0)
                 self.assert_no_way(hand, 60)
 
     def assert_no_way(self, hand, count):
-        before = kept(hand)
+        before = told_of(hand)
         with self.assertRaises(NoWay) as caught:
             trap(hand, count)
         self.assertIs(type(caught.exception), NoWay)
-        self.assertEqual(kept(hand), before)
+        self.assertEqual(told_of(hand), before)
 
     def test_one_adviser_of_a_follower_is_trapped_otherwise(self):
         self.assertEqual(len(trap_following(Follower(1, 1), 60)), 60)

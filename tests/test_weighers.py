@@ -2,28 +2,13 @@ import itertools
 import random
 import unittest
 
-from samples import GREATEST, WeigherTest, middle_awake, plain_times
+from samples import MAKINGS, NO_SAID, NO_SO, WeigherTest, middle_awake, plain_times
 
-from heedwise.errors import NoRule, NoTurn
+from heedwise.errors import NoTurn
 from heedwise.hands import Hand
 from heedwise.turns import erred, own_errors
 from heedwise.weighers import Weigher
 from heedwise.wholes import halvings
-
-FRACTIONS = ((0, 1), (1, 2), (2, 3), (0, 100), (1, 100), (50, 100), (99, 100))
-
-# many, scale, top, bottom
-MAKINGS = tuple(
-    (many, scale, top, bottom)
-    for (many, scale), (top, bottom) in itertools.product(((1, 1), (2, 1), (5, 1), (3, 4), (7, 10), (24, 2)), FRACTIONS)
-)
-
-# For two advisers on the scale from 0 to 2.
-NO_SAID = (
-    (0,), (0, 1, 2), (), (-1, 1), (0, 3), (0, GREATEST), (True, 1), (0, False), (0, "1"), (0, ()), (0, [1]),
-    [0, 1], "01", 2, True, None,
-)
-NO_SO = (-1, 3, GREATEST, -GREATEST, True, False, "1", (1,), [1], (), None)
 
 
 def drawn_turn(source, many, scale):
@@ -53,7 +38,7 @@ def rows_for(source, weigher):
     return (drawn_turns(source, weigher.many, weigher.scale), hurting_turns(source, weigher))
 
 
-class MakingTest(unittest.TestCase):
+class MakingTest(WeigherTest):
     def test_it_is_a_hand(self):
         self.assertEqual(Weigher.__bases__, (Hand,))
         self.assertIsInstance(Weigher(2, 1, 1, 2), Hand)
@@ -75,27 +60,11 @@ class MakingTest(unittest.TestCase):
             for top in (0, bottom // 2, bottom - 1):
                 self.assertEqual((Weigher(1, 1, top, bottom).top, Weigher(1, 1, top, bottom).bottom), (top, bottom))
 
-    def test_refused_fractions(self):
-        wrong = (
-            (-1, 2), (-GREATEST, 2), (2, 2), (3, 2), (1, 1), (100, 100), (101, 100), (GREATEST, 100), (0, 101),
-            (1, 101), (100, 101), (0, GREATEST), (1, GREATEST), (0, 0), (-1, 0), (0, -1), (-2, -1), (-1, -GREATEST),
-            (True, 2), (False, 2), (0, True), (False, True), (True, True), (0, False), (False, 100),
-        )
-        for top, bottom in wrong:
-            self.assert_refused(2, 1, top, bottom)
-
-    def test_refused_advisers_and_scales(self):
-        for many in (0, 25, -1, GREATEST, True, False):
-            self.assert_refused(many, 1, 1, 2)
-        for scale in (0, 11, -1, GREATEST, True, False):
-            self.assert_refused(2, scale, 1, 2)
-        self.assert_refused(0, 0, 2, 2)
-        self.assert_refused(True, True, True, True)
-
-    def assert_refused(self, *making):
-        with self.assertRaises(NoRule, msg=making) as caught:
-            Weigher(*making)
-        self.assertIs(type(caught.exception), NoRule)
+    def test_refused(self):
+        self.assert_fractions_refused(lambda top, bottom: Weigher(2, 1, top, bottom))
+        self.assert_makings_refused(lambda many, scale: Weigher(many, scale, 1, 2))
+        self.assert_no_rule(Weigher, 0, 0, 2, 2)
+        self.assert_no_rule(Weigher, True, True, True, True)
 
 
 class ByHandTest(WeigherTest):
